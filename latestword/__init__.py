@@ -1,0 +1,1 @@
+"""Latestword: one book shared out to desks that seldom meet."""

@@ -1,0 +1,197 @@
+"""Offices to try, rows to try them with, and what DOC.md tells, word for word and slowly."""
+
+from functools import lru_cache
+from itertools import product
+
+from latestword.books import Book
+from latestword.offices import Office
+
+F = Office(2, ((0,), (1,), (0, 1)))
+O = Office(3, ((0, 1), (1, 2), (0, 2)))
+ALONE = Office(1, ((0,),))
+ALONE_TWICE = Office(1, ((0,), (0,)))
+RING = Office(4, ((0, 1), (1, 2), (2, 3), (0, 3)))
+STAR = Office(4, ((0, 1), (0, 2), (0, 3), (3,)))
+IDLE = Office(3, ((1,), (1,), (2,)))
+APART = Office(3, ((0,), (1,), (2,)))
+SIX_RING = Office(6, ((0, 1), (1, 2), (2, 3), (3, 4), (4, 5), (0, 5)))
+SIX = Office(6, ((0,), (1,), (2,), (3,), (4,), (5,), (0, 1, 2), (2, 3), (3, 4, 5), (0, 1, 2, 3, 4, 5)))
+SIX_STAR = Office(6, ((0, 1), (0, 2), (0, 3), (0, 4), (0, 5)))
+SMALL = [F, O, ALONE, ALONE_TWICE, RING, STAR, IDLE, APART]
+LARGE = [SIX_RING, SIX, SIX_STAR]
+C = Book(F, (0, 1), ((1, 0, 0), (0, 1, 1)))
+W = Book(F, (0, 1, 2), ((1, 2, 0), (1, 1, 1), (2, 2, 2)))
+
+
+def works_of(office):
+    return range(len(office.works))
+
+
+def rows_of(office, length):
+    return list(product(works_of(office), repeat=length))
+
+
+def rows_to(office, most):
+    return [row for length in range(most + 1) for row in rows_of(office, length)]
+
+
+def long_row(office, length, seed):
+    """A row that looks like chance, and is the same each time."""
+    row = []
+    state = seed * 7919 + 12345
+    for _ in range(length):
+        state = (state * 1103515245 + 12345) % 2 ** 31
+        row.append((state >> 12) % len(office.works))
+    return tuple(row)
+
+
+def lots_of(many):
+    return sorted(
+        tuple(desk for desk in range(many) if bits >> desk & 1) for bits in range(2 ** many)
+    )
+
+
+def meeting(office, one, other):
+    return one == other or bool(set(office.works[one]) & set(office.works[other]))
+
+
+def reached(office, row):
+    """All alike rows, with the least number of exchanges that lead to them."""
+    found = {row: 0}
+    edge = [row]
+    while edge:
+        beyond = []
+        for here in edge:
+            for at in range(len(here) - 1):
+                one, other = here[at], here[at + 1]
+                there = here[:at] + (other, one) + here[at + 2:]
+                if not meeting(office, one, other) and there not in found:
+                    found[there] = found[here] + 1
+                    beyond.append(there)
+        edge = beyond
+    return found
+
+
+def least_of(office, row):
+    return min(reached(office, row))
+
+
+def pasts(office, row):
+    return pasts_of_works(office.works, row)
+
+
+@lru_cache(maxsize=1000)
+def pasts_of_works(works, row):
+    found = []
+    for event, work in enumerate(row):
+        own = {event}
+        for place in range(event):
+            if set(works[row[place]]) & set(works[work]):
+                own |= found[place]
+        found.append(own)
+    return found
+
+
+def viewed(office, row, lot):
+    found = set()
+    for event, own in enumerate(pasts(office, row)):
+        if set(office.works[row[event]]) & set(lot):
+            found |= own
+    return found
+
+
+def last_in(office, row, events, desk):
+    return max((event for event in events if desk in office.works[row[event]]), default=None)
+
+
+def lasts_in(office, row, events):
+    return tuple(last_in(office, row, events, desk) for desk in range(office.desks))
+
+
+def lasts_behind(office, row, event):
+    """The last events of all desks in the past of an event, which may be none."""
+    return lasts_in(office, row, set() if event is None else pasts(office, row)[event])
+
+
+def news_in_words(office, row, desk):
+    return lasts_in(office, row, viewed(office, row, (desk,)))
+
+
+def deeper(office, row, thing):
+    """With the last events in their pasts in the place of events."""
+    if isinstance(thing, tuple):
+        return tuple(deeper(office, row, part) for part in thing)
+    return lasts_behind(office, row, thing)
+
+
+def all_news_in_words(office, row, desk):
+    first = news_in_words(office, row, desk)
+    second = deeper(office, row, first)
+    return first, second, deeper(office, row, second)
+
+
+def leaves(thing):
+    """What stands in nested tuples of events, without None."""
+    if isinstance(thing, tuple):
+        return {leaf for part in thing for leaf in leaves(part)}
+    return set() if thing is None else {thing}
+
+
+def labels_in_words(office, row):
+    found = []
+    for event, work in enumerate(row):
+        ahead = row[:event]
+        taken = set()
+        for desk in office.works[work]:
+            third = all_news_in_words(office, ahead, desk)[2]
+            taken |= {(ahead[place], found[place]) for place in leaves(third)}
+        found.append(min(set(range(len(taken) + 1)) - {label for own, label in taken if own == work}))
+    return tuple(found)
+
+
+def named(row, labels, thing):
+    if isinstance(thing, tuple):
+        return tuple(named(row, labels, part) for part in thing)
+    return None if thing is None else (row[thing], labels[thing])
+
+
+def slip_in_words(office, row, labels, desk):
+    return tuple(named(row, labels, part) for part in all_news_in_words(office, row, desk))
+
+
+def second_events_in_words(office, row):
+    found = set()
+    for desk in range(office.desks):
+        found |= leaves(all_news_in_words(office, row, desk)[1])
+    return sorted(found)
+
+
+def wrong_at(office, row, labels):
+    """The least pair of events among the second news behind a row that have one name, or None."""
+    events = second_events_in_words(office, row)
+    for one in events:
+        for other in events:
+            if one < other and (row[one], labels[one]) == (row[other], labels[other]):
+                return one, other
+    return None
+
+
+def nested(depth, wrap):
+    thing = ()
+    for _ in range(depth):
+        thing = wrap(thing)
+    return thing
+
+
+def odd_things():
+    """Things of all kinds that an argument may be."""
+    return [
+        None, True, False, -1, 3, 7, 10 ** 39, -10 ** 39, "", "0", "one", b"", b"0", [], [0], [0, 1], [[0]],
+        {}, {0: 0}, {"desks": 1}, (), (0,), (1,), (0, 1), (1, 0), (0, 0), (None,), (True,), (False, True),
+        ("0",), (b"0",), ((),), ((0,),), ([0],), ({},), (-1,), (10,), (10 ** 39,), (0, None), (0, "1"),
+        ((), ()), ((), [0]), ((0, 1), (1, 0)), ((0, True), (1,)), "01", "().", bytearray(b"0"), range(2),
+        nested(39, lambda x: (x,)), nested(39, lambda x: [x]), nested(39, lambda x: {0: x}),
+        (nested(38, lambda x: (x, 0)),), tuple(range(9999)), (0,) * 9999, [0] * 9999,
+        F, C, (F,), [C], Office, len, odd_things, slice(0, 1), Ellipsis, NotImplemented, (NotImplemented,),
+        object(), ValueError("x"), iter(()), memoryview(b"0"),
+    ]

@@ -1,0 +1,53 @@
+"""The examples e01 to e07 of the document, to the letter."""
+
+import unittest
+
+from latestword.begins import common, joint
+from latestword.labelling import clashing, fewest_labels
+from latestword.logs import done_most, from_logs, log
+from latestword.news import newer, news, tops
+from latestword.offices import Office, apart_pairs, works_without
+from latestword.rows import exchanges, layers, least_row
+from latestword.slips import labels, slip
+
+f = Office(2, ((0,), (1,), (0, 1)))
+o = Office(3, ((0, 1), (1, 2), (0, 2)))
+
+
+class Examples(unittest.TestCase):
+    def test_e01(self):
+        self.assertEqual(apart_pairs(f), [(0, 1)])
+        self.assertEqual(apart_pairs(o), [])
+        self.assertEqual(works_without(o, (0,)), (1,))
+
+    def test_e02(self):
+        self.assertEqual(least_row(f, (1, 0, 2)), (0, 1, 2))
+        self.assertEqual(layers(f, (1, 0, 2)), ((0, 1), (2,)))
+        self.assertEqual(exchanges(f, (0, 1), (1, 0)), 1)
+
+    def test_e03(self):
+        self.assertEqual(log(f, (0, 1, 2, 0), 1), (1, 2))
+        self.assertEqual(from_logs(f, ((0, 2), (2,))), (0, 2))
+        self.assertEqual(done_most(f, ((2, 0), (1, 1))), (0, 2))
+
+    def test_e04(self):
+        self.assertEqual(common(f, (0, 1), (0, 0)), (0,))
+        self.assertEqual(joint(f, (0,), (1,)), (0, 1))
+        self.assertIs(joint(f, (0,), (2,)), None)
+
+    def test_e05(self):
+        self.assertEqual(news(f, (0, 2, 1, 0), 1), (1, 2))
+        self.assertEqual(newer(f, (0, 2, 1, 0), 0, 1, 0), "one")
+        self.assertEqual(tops(f, (0, 2, 1, 0), 0, 1), (1,))
+
+    def test_e06(self):
+        self.assertEqual(labels(f, (0, 0, 0)), (0, 1, 0))
+        self.assertEqual(slip(f, (1,), 1)[0], (None, (1, 0)))
+
+    def test_e07(self):
+        self.assertEqual(fewest_labels(f, (0, 0, 0)), 1)
+        self.assertEqual(clashing(f, (0, 2, 0, 0)), [])
+
+
+if __name__ == "__main__":
+    unittest.main()

@@ -1,0 +1,168 @@
+"""Part 0, points 0.2 to 0.5, and the interface: what holds for every function and class alike."""
+
+import copy
+import importlib
+import inspect
+import unittest
+
+from helper import C, F, RING, W, long_row, nested
+from latestword.errors import OfficeError
+from latestword.offices import Office
+from latestword.slips import blank_slip, slip
+
+INTERFACE = {
+    "offices": {
+        "Office": "desks works", "meet": "office one other", "apart_pairs": "office", "own_works": "office desk",
+        "works_within": "office lot", "works_without": "office lot",
+    },
+    "rows": {
+        "is_row": "office thing", "alike": "office row other", "exchanges": "office row other",
+        "least_row": "office row", "layers": "office row", "all_alike": "office row", "many_alike": "office row",
+    },
+    "logs": {"log": "office row desk", "done_most": "office logs", "from_logs": "office logs"},
+    "begins": {
+        "begins": "office row other", "common": "office row other", "gone_on": "office row other",
+        "joint": "office row other",
+    },
+    "news": {
+        "ahead": "office row one other", "past": "office row place", "view": "office row lot",
+        "heard_by": "office row place", "tops": "office row one other", "view_row": "office row lot",
+        "latest": "office row lot desk", "news": "office row desk", "second_news": "office row desk",
+        "third_news": "office row desk", "newer": "office row one other desk",
+    },
+    "slips": {
+        "labels": "office row", "slip": "office row desk", "blank_slip": "office", "passed": "office work slips",
+        "newer_by": "office one other desk", "within_by": "office one desk other goal",
+    },
+    "labelling": {
+        "are_right": "office row labels", "first_wrong": "office row labels", "clashing": "office row",
+        "fewest_labels": "office row", "dealt": "office row dealer", "judged_dealer": "office dealer many",
+    },
+    "books": {"Book": "office telling steps", "stood": "book row", "told": "book row", "is_even": "book"},
+}
+
+
+def module(name):
+    return importlib.import_module("latestword." + name)
+
+
+def first_free(work, slips):
+    names = {name for held in slips for rows in held[2] for part in rows for name in part}
+    return min(label for label in range(len(names) + 1) if (work, label) not in names)
+
+
+def calls():
+    """A right call of each function, and one of each class."""
+    row = (1, 0, 2, 0, 1)
+    slips = (slip(F, row, 0), slip(F, row, 1))
+    given = {
+        "office": F, "book": C, "row": row, "other": (0, 1, 2, 1), "lot": (0,), "desk": 1,
+        "logs": ((0, 2, 0), (1, 2)), "work": 2, "place": 3, "thing": row, "slips": slips, "labels": (0, 0, 0, 0, 1), "dealer": first_free, "many": 3, "goal": 0,
+    }
+    own = {"meet": (F, 0, 2), "ahead": (F, row, 1, 3), "tops": (F, row, 0, 1), "newer": (F, row, 0, 1, 0),
+           "newer_by": (F, slips[0], slips[1], 0), "within_by": (F, slips[0], 1, slips[1], 0),
+           "Office": (2, ((0,), (0, 1))), "Book": (F, (0, 3), ((0, 1, 1), (1, 1, 0)))}
+    found = []
+    for file, names in INTERFACE.items():
+        for name, words in names.items():
+            arguments = own.get(name) or tuple(given[word] for word in words.split())
+            found.append((getattr(module(file), name), arguments))
+    return found
+
+
+class Interface(unittest.TestCase):
+    def test_names_stand_in_their_files(self):
+        for file, names in INTERFACE.items():
+            for name, words in names.items():
+                thing = getattr(module(file), name)
+                self.assertEqual(thing.__module__, "latestword." + file)
+                self.assertEqual(thing.__name__, name)
+                function = thing.__init__ if inspect.isclass(thing) else thing
+                arguments = [word for word in inspect.signature(function).parameters if word != "self"]
+                self.assertEqual(" ".join(arguments), words)
+
+    def test_attributes(self):
+        self.assertEqual(vars(F), {"desks": 2, "works": ((0,), (1,), (0, 1))})
+        self.assertEqual(vars(C), {"office": F, "telling": (0, 1), "steps": ((1, 0, 0), (0, 1, 1))})
+
+
+class Calls(unittest.TestCase):
+    def test_equal_calls_give_equal_answers(self):
+        first = [function(*arguments) for function, arguments in calls()]
+        for at, (function, arguments) in enumerate(reversed(calls())):
+            self.assertEqual(function(*copy.deepcopy(arguments)), first[-1 - at])
+
+    def test_arguments_stay_as_they_were(self):
+        for function, arguments in calls():
+            kept = copy.deepcopy(arguments)
+            function(*arguments)
+            self.assertEqual(arguments, kept)
+
+    def test_lists_are_new(self):
+        for function, arguments in calls():
+            answer = function(*arguments)
+            if isinstance(answer, (list, dict)):
+                kept = copy.deepcopy(answer)
+                answer.clear()
+                self.assertEqual(function(*arguments), kept)
+
+    def test_flags_are_flags(self):
+        for function, arguments in calls():
+            if function.__name__.startswith(("is_", "are_")) or function.__name__ in ("alike", "begins", "meet", "ahead"):
+                self.assertIs(type(function(*arguments)), bool)
+
+    def test_answers_have_no_odd_kinds_inside(self):
+        for function, arguments in calls():
+            self.kinds(function(*arguments))
+
+    def kinds(self, thing):
+        if isinstance(thing, (list, tuple)):
+            self.assertIn(type(thing), (list, tuple))
+            for part in thing:
+                self.kinds(part)
+        elif not isinstance(thing, (Office, type(C))):
+            self.assertIn(type(thing), (int, bool, str, type(None)))
+
+    def test_wrong_arguments_stay_as_they_were(self):
+        """Each argument of each call in turn is a list, a dict or deep; nothing is changed, no odd error raised."""
+        for function, arguments in calls():
+            for at in range(0 if inspect.isclass(function) else 1, len(arguments)):
+                if callable(arguments[at]) or isinstance(arguments[at], Office):
+                    continue
+                for wrong in ([0, [1]], {0: [1]}, {"a": {0: 1}}, [[0, 1, 2]] * 3, nested(39, lambda x: [x])):
+                    kept = copy.deepcopy(wrong)
+                    changed = arguments[:at] + (wrong,) + arguments[at + 1:]
+                    try:
+                        self.assertIs(function(*changed), False)
+                        self.assertEqual(function.__name__, "is_row")
+                    except OfficeError:
+                        pass
+                    self.assertEqual(wrong, kept)
+
+    def test_objects_keep_what_they_were_made_of(self):
+        works = ((0,), (0, 1))
+        office = Office(2, works)
+        steps = ((0, 0), (1, 1))
+        book = module("books").Book(office, (1, 2), steps)
+        self.assertEqual((office.works, book.steps), (((0,), (0, 1)), ((0, 0), (1, 1))))
+        self.assertEqual(module("books").told(book, (0, 1)), 1)
+
+    def test_what_was_returned_may_be_passed_on(self):
+        rows = [long_row(RING, 60, 1), long_row(RING, 60, 2)]
+        shared = module("begins").common(RING, *rows)
+        least = module("rows").least_row(RING, rows[0])
+        self.assertIs(module("begins").begins(RING, shared, least), True)
+        whole = module("begins").joint(F, (0,) * 60, (1,) * 60)
+        for function, words in ((module("rows").layers, ()), (module("slips").labels, ()), (module("news").news, (1,))):
+            function(F, whole, *words)
+        self.assertEqual(module("books").stood(C, whole), 0)
+        self.assertEqual(module("books").stood(W, whole), 1)
+
+    def test_offices_and_books_take_each_other_apart(self):
+        self.assertIs(F == C, False)
+        self.assertIs(C != F, True)
+        self.assertIs(blank_slip(F) == F, False)
+
+
+if __name__ == "__main__":
+    unittest.main()
