@@ -1,5 +1,6 @@
 """Offices to try, rows to try them with, and what DOC.md tells, word for word and slowly."""
 
+import unittest
 from functools import lru_cache
 from itertools import product
 
@@ -21,6 +22,14 @@ SMALL = [F, O, ALONE, ALONE_TWICE, RING, STAR, IDLE, APART]
 LARGE = [SIX_RING, SIX, SIX_STAR]
 C = Book(F, (0, 1), ((1, 0, 0), (0, 1, 1)))
 W = Book(F, (0, 1, 2), ((1, 2, 0), (1, 1, 1), (2, 2, 2)))
+
+
+class Case(unittest.TestCase):
+    def raises(self, error, function, *arguments):
+        """Just this error is raised, and none that derives from it."""
+        with self.assertRaises(error) as caught:
+            function(*arguments)
+        self.assertIs(type(caught.exception), error)
 
 
 def works_of(office):

@@ -21,9 +21,9 @@ BARRED = set("""type typing typing_extensions enum Enum IntEnum StrEnum Flag Int
 namedtuple NamedTuple TypedDict TYPE_CHECKING abstractmethod register mro elements open input law version_info
 with_traceback add_note _wall _WallAttr""".split())
 FORBIDDEN = (
-    ast.GeneratorExp, ast.Set, ast.SetComp, ast.Lambda, ast.Try, ast.With, ast.Global, ast.Nonlocal, ast.AsyncFunctionDef,
-    ast.Await, ast.Yield, ast.YieldFrom, ast.NamedExpr, ast.Starred, ast.Div, ast.MatMult, ast.Pow, ast.Delete, ast.Match,
-    ast.JoinedStr, ast.AnnAssign, ast.Assert,
+    ast.GeneratorExp, ast.Set, ast.SetComp, ast.Lambda, ast.Try, ast.With, ast.Global, ast.Nonlocal, ast.Await,
+    ast.AsyncFunctionDef, ast.Yield, ast.YieldFrom, ast.NamedExpr, ast.Starred, ast.Div, ast.MatMult, ast.Pow,
+    ast.Delete, ast.Match, ast.JoinedStr, ast.AnnAssign, ast.Assert,
 )
 CLASS_NAMES = re.compile("[A-Z][A-Za-z0-9]*")
 PLAIN_NAMES = re.compile("_|[A-Za-z][A-Za-z0-9_]*")

@@ -4,8 +4,8 @@ import unittest
 from itertools import product
 
 from helper import (
-    ALONE, ALONE_TWICE, APART, F, IDLE, LARGE, O, RING, SIX, SMALL, STAR, long_row, odd_things, rows_of, rows_to,
-    second_events_in_words, slip_in_words, works_of, wrong_at,
+    ALONE, ALONE_TWICE, APART, F, IDLE, LARGE, O, RING, SIX, SMALL, STAR, Case, long_row, odd_things, rows_of,
+    rows_to, second_events_in_words, slip_in_words, works_of, wrong_at,
 )
 from latestword.errors import BadDealer, NoLabels, NoMany, NoRow, OfficeError, TooMany
 from latestword.labelling import are_right, clashing, dealt, fewest_labels, first_wrong, judged_dealer
@@ -113,7 +113,8 @@ def failing(dealer, bad):
 
 class Labels(unittest.TestCase):
     def test_small_rows_and_all_labels(self):
-        for office, most, many in ((F, 4, 2), (ALONE, 5, 3), (ALONE_TWICE, 4, 2), (APART, 3, 2), (O, 3, 2), (IDLE, 3, 2)):
+        offices = ((F, 4, 2), (ALONE, 5, 3), (ALONE_TWICE, 4, 2), (APART, 3, 2), (O, 3, 2), (IDLE, 3, 2))
+        for office, most, many in offices:
             for row in rows_to(office, most):
                 for given in product(range(many), repeat=len(row)):
                     expected = first_wrong_in_words(office, row, given)
@@ -124,7 +125,8 @@ class Labels(unittest.TestCase):
         for office in SMALL:
             for seed in range(3):
                 row = long_row(office, 14, seed)
-                for given in ((0,) * 14, long_row(SIX, 14, seed), tuple(range(14)), (0, 1) * 7, (0, 1, 2, 0, 1, 2, 3) * 2):
+                some = (0,) * 14, tuple(range(14)), (0, 1) * 7, (0, 1, 2, 0, 1, 2, 3) * 2, long_row(SIX, 14, seed)
+                for given in some:
                     self.assertEqual(first_wrong(office, row, given), first_wrong_in_words(office, row, given))
 
     def test_right_ones(self):
@@ -418,12 +420,7 @@ class Judged(unittest.TestCase):
                 self.assertEqual(caught.exception.row, (0,))
 
 
-class Errors(unittest.TestCase):
-    def raises(self, error, function, *arguments):
-        with self.assertRaises(error) as caught:
-            function(*arguments)
-        self.assertIs(type(caught.exception), error)
-
+class Errors(Case):
     def test_no_row_comes_first(self):
         for thing in odd_things() + [(3,), [0] * 13, (0,) * 13 + (3,)]:
             if not (isinstance(thing, tuple) and all(type(part) is int and 0 <= part < 3 for part in thing)):

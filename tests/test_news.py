@@ -3,8 +3,8 @@
 import unittest
 
 from helper import (
-    ALONE, F, IDLE, LARGE, O, RING, SIX, SMALL, all_news_in_words, last_in, leaves, least_of, long_row, lots_of,
-    news_in_words, odd_things, pasts, rows_of, rows_to, viewed,
+    ALONE, F, IDLE, LARGE, O, RING, SIX, SMALL, Case, all_news_in_words, last_in, least_of, leaves, long_row,
+    lots_of, news_in_words, odd_things, pasts, rows_of, rows_to, viewed,
 )
 from latestword.errors import NoDesk, NoLot, NoPlace, NoRow
 from latestword.news import (
@@ -169,12 +169,7 @@ class Tops(unittest.TestCase):
             self.assertTrue(set(tops(office, row, 0, last)) <= set(news(office, row, 0)))
 
 
-class Errors(unittest.TestCase):
-    def raises(self, error, function, *arguments):
-        with self.assertRaises(error) as caught:
-            function(*arguments)
-        self.assertIs(type(caught.exception), error)
-
+class Errors(Case):
     def test_no_row_comes_first(self):
         for thing in odd_things() + [(3,), (0, True), [0]]:
             if is_bad_row(thing):

@@ -3,8 +3,8 @@
 import unittest
 
 from helper import (
-    ALONE, ALONE_TWICE, F, IDLE, LARGE, O, RING, SIX, SIX_RING, SIX_STAR, SMALL, STAR, labels_in_words, long_row,
-    news_in_words, odd_things, pasts, rows_to, second_events_in_words, slip_in_words,
+    ALONE, ALONE_TWICE, F, IDLE, LARGE, O, RING, SIX, SIX_RING, SIX_STAR, SMALL, STAR, Case, labels_in_words,
+    long_row, news_in_words, odd_things, pasts, rows_to, second_events_in_words, slip_in_words,
 )
 from latestword.errors import NoDesk, NoRow, NoSlip, NoSlips, NoWork
 from latestword.news import newer
@@ -167,12 +167,7 @@ class FromSlipsAlone(unittest.TestCase):
         self.assertEqual(passed(F, 0, (blank,)), slip(F, (0,), 0))
 
 
-class Errors(unittest.TestCase):
-    def raises(self, error, function, *arguments):
-        with self.assertRaises(error) as caught:
-            function(*arguments)
-        self.assertIs(type(caught.exception), error)
-
+class Errors(Case):
     def wrong_slips(self):
         first, second, third = BLANK
         wrong = [
