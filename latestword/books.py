@@ -1,7 +1,7 @@
 """Books: machines that tell a number behind each row of an office."""
 
 from latestword.checks import check_row, is_below
-from latestword.errors import BadBook
+from latestword.errors import BadBook, NotEven
 from latestword.offices import apart_pairs
 
 MOST_STANDINGS = 12
@@ -44,22 +44,40 @@ class Book:
                 and self.telling == other.telling and self.steps == other.steps)
 
 
-def stood(book, row):
-    check_row(book.office, row)
-    standing = 0
+def book_of(office, telling, steps):
+    """A book of any size, of parts that fit together."""
+    # The class bounds the size of books that are passed to it, not of those returned.
+    book = Book(office, (0,), ((0,) * len(office.works),))
+    book.telling = telling
+    book.steps = steps
+    return book
+
+
+def led_from(book, standing, row):
+    """The standing to which a row leads from one."""
     for work in row:
         standing = book.steps[standing][work]
     return standing
+
+
+def stood(book, row):
+    check_row(book.office, row)
+    return led_from(book, 0, row)
 
 
 def told(book, row):
     return book.telling[stood(book, row)]
 
 
+def lead_alike(book, one, other):
+    """Whether two works lead in either order from each standing to the same one."""
+    return all([book.steps[step[one]][other] == book.steps[step[other]][one] for step in book.steps])
+
+
 def is_even(book):
-    pairs = apart_pairs(book.office)
-    return all([
-        book.steps[step[one]][other] == book.steps[step[other]][one]
-        for step in book.steps
-        for one, other in pairs
-    ])
+    return all([lead_alike(book, one, other) for one, other in apart_pairs(book.office)])
+
+
+def check_even(book):
+    if not is_even(book):
+        raise NotEven()

@@ -1,6 +1,8 @@
 """What is an integer, a desk, a work, a lot or a row, and the errors for what is none."""
 
-from latestword.errors import NoDesk, NoLot, NoRow, NoWork
+from latestword.errors import NoDesk, NoLot, NoMany, NoRow, NoWork
+
+MOST_JUDGED = 6
 
 
 def is_integer(thing):
@@ -48,3 +50,9 @@ def check_lot(office, lot):
 def check_row(office, row):
     if not are_works(office, row):
         raise NoRow()
+
+
+def check_many(many):
+    """Raises NoMany for what is no length up to which strangers are judged."""
+    if not is_below(many, MOST_JUDGED + 1):
+        raise NoMany()

@@ -1,18 +1,13 @@
 """Strangers' labels, and strangers who deal labels out: whether they are right."""
 
-from latestword.checks import check_row, is_below, is_number
-from latestword.errors import BadDealer, NoLabels, NoMany, TooMany
-from latestword.offices import works_meet
+from latestword.checks import check_many, check_row, is_number
+from latestword.errors import BadDealer, NoLabels, TooMany
+from latestword.lots import pairs_of
+from latestword.rows import works_behind
 from latestword.slips import slips_for
 from latestword.trails import Trail
 
 MOST_COLOURED = 12
-MOST_JUDGED = 6
-
-
-def pairs_of(events):
-    """The ascending list of the pairs of some ascending events."""
-    return [(one, other) for at, one in enumerate(events) for other in events[at + 1:]]
 
 
 def first_same(trail):
@@ -101,23 +96,8 @@ def dealt(office, row, dealer):
     return tuple(found)
 
 
-def keeps_least(office, row, work):
-    """Whether a work behind a row that is the least alike one makes such a row, too."""
-    for done in reversed(row):
-        if works_meet(office, done, work):
-            return True
-        if done > work:
-            return False
-    return True
-
-
-def works_behind(office, row):
-    return [work for work in range(len(office.works)) if keeps_least(office, row, work)]
-
-
 def judged_dealer(office, dealer, many):
-    if not is_below(many, MOST_JUDGED + 1):
-        raise NoMany()
+    check_many(many)
     # Alike rows end with the same slips and names, and in a shortest row with a given
     # call of the dealer all events come ahead of the last one: so the least of the
     # shortest rows sought is the least of those alike to it, and others are left out.

@@ -16,26 +16,31 @@ def all_logs(office, row):
     ])
 
 
-def first_ready(office, logs, counts):
-    """The least work that comes next in the logs of all its desks, or None."""
-    for work, desks in enumerate(office.works):
-        if all([logs[desk][counts[desk]:counts[desk] + 1] == (work,) for desk in desks]):
+def first_ready(teams, logs, counts):
+    """The least work that comes next in the logs of all its team, or None."""
+    for work, team in enumerate(teams):
+        if len(team) > 0 and all([logs[desk][counts[desk]:counts[desk] + 1] == (work,) for desk in team]):
             return work
     return None
 
 
-def done_by_logs(office, logs):
-    """The least row that does as much of some logs as can be done, and how much of each it does."""
-    counts = [0] * office.desks
+def done_by_teams(teams, logs):
+    """As done_by_logs, where a work is done by those of its team alone, and by nobody without one."""
+    counts = [0] * len(logs)
     row = []
-    # Works that are ready together are apart, so that taking one never bars another one.
-    work = first_ready(office, logs, counts)
+    # Works that are ready together have no desk in common, so that taking one never bars another one.
+    work = first_ready(teams, logs, counts)
     while work is not None:
         row.append(work)
-        for desk in office.works[work]:
+        for desk in teams[work]:
             counts[desk] += 1
-        work = first_ready(office, logs, counts)
+        work = first_ready(teams, logs, counts)
     return tuple(row), tuple(counts)
+
+
+def done_by_logs(office, logs):
+    """The least row that does as much of some logs as can be done, and how much of each it does."""
+    return done_by_teams(office.works, logs)
 
 
 def is_row(office, thing):
@@ -144,3 +149,18 @@ def many_alike(office, row):
                 longer[beyond] = longer.get(beyond, 0) + many
         ways = longer
     return sum(ways.values())
+
+
+def keeps_least(office, row, work):
+    """Whether a work behind a row that is the least alike one makes such a row, too."""
+    for done in reversed(row):
+        if works_meet(office, done, work):
+            return True
+        if done > work:
+            return False
+    return True
+
+
+def works_behind(office, row):
+    """The list of the works that, behind a least row, make another least one."""
+    return [work for work in range(len(office.works)) if keeps_least(office, row, work)]

@@ -4,7 +4,9 @@ import unittest
 from functools import lru_cache
 from itertools import product
 
-from latestword.books import Book
+from latestword.books import Book, told
+from latestword.leasts import least_book
+from latestword.machines import Machine, joined
 from latestword.offices import Office
 
 F = Office(2, ((0,), (1,), (0, 1)))
@@ -52,6 +54,107 @@ def long_row(office, length, seed):
         state = (state * 1103515245 + 12345) % 2 ** 31
         row.append((state >> 12) % len(office.works))
     return tuple(row)
+
+
+class Chance:
+    """Numbers that look like chance, and are the same each time."""
+
+    def __init__(self, seed):
+        self.state = seed * 7919 + 12345
+
+    def below(self, many):
+        self.state = (self.state * 1103515245 + 12345) % 2 ** 31
+        return (self.state >> 12) % many
+
+    def among(self, things):
+        return things[self.below(len(things))]
+
+    def shuffled(self, things):
+        left = list(things)
+        return [left.pop(self.below(len(left))) for _ in things]
+
+
+def book_by(office, many, seed, most=3):
+    """A book with so many standings, telling numbers below most."""
+    chance = Chance(seed)
+    telling = tuple(chance.below(most) for _ in range(many))
+    return Book(office, telling, tuple(tuple(chance.below(many) for _ in works_of(office)) for _ in range(many)))
+
+
+def all_notes_of(many):
+    return list(product(*[range(number) for number in many]))
+
+
+def parts_by(office, many, seed, most=10):
+    """What a machine is made of; its works turn notes about without losing any, for even seeds."""
+    chance = Chance(seed)
+    moves = []
+    for desks in office.works:
+        keys = all_notes_of([many[desk] for desk in desks])
+        moves.append(dict(zip(keys, [chance.among(keys) for _ in keys] if seed % 2 else chance.shuffled(keys))))
+    return office, many, tuple(moves), {notes: chance.below(most) for notes in all_notes_of(many)}
+
+
+def machine_by(office, many, seed, most=10):
+    return Machine(*parts_by(office, many, seed, most))
+
+
+def doubled(book, seed):
+    """A book that tells the same, with each standing twice; hardly ever an even one."""
+    chance = Chance(seed)
+    many = len(book.steps)
+    steps = tuple(tuple(there + many * chance.below(2) for there in step) for step in book.steps * 2)
+    return Book(book.office, book.telling * 2, steps)
+
+
+def even_books():
+    """Even books of the small offices, some with more than twelve standings."""
+    found = []
+    for office, many in (
+        (F, (2, 3)), (O, (2, 2, 2)), (RING, (2, 1, 2, 2)), (STAR, (2, 2, 1, 3)), (IDLE, (1, 3, 2)), (APART, (2, 2, 3)),
+        (ALONE, (4,)), (ALONE_TWICE, (5,)),
+    ):
+        found += [joined(machine_by(office, many, seed, 3)) for seed in (1, 2, 3, 4)]
+    return found
+
+
+def small_even_books():
+    """Even books of few works and standings, to go through many rows with."""
+    found = [C, Book(F, (4,), ((0, 0, 0),)), Book(APART, (1, 2), ((1, 0, 1), (0, 1, 0)))]
+    for office, many in ((F, (2, 2)), (F, (1, 3)), (O, (2, 1, 2)), (APART, (2, 1, 2)), (ALONE, (3,))):
+        for seed in range(1, 7):
+            book = least_book(joined(machine_by(office, many, seed, 2)))
+            if len(book.steps) < 4 and book not in found:
+                found.append(book)
+    return found
+
+
+def mixed_books():
+    """Small books of all kinds: even, shareable but not even, neither."""
+    found = [C, W] + small_even_books()
+    found += [doubled(book, seed) for seed, book in enumerate(small_even_books())]
+    for office in (F, O, ALONE, ALONE_TWICE, APART, IDLE):
+        found += [book_by(office, 1 + seed % 3, seed) for seed in range(1, 10)]
+    return found
+
+
+def tells_from(book, standing, most):
+    """What is told from a standing behind all rows up to a length."""
+    found = []
+    for row in rows_to(book.office, most):
+        here = standing
+        for work in row:
+            here = book.steps[here][work]
+        found.append(book.telling[here])
+    return tuple(found)
+
+
+def first_row(office, most, is_wanted):
+    """The least of the shortest rows for which something holds, None if none up to a length does."""
+    for row in rows_to(office, most):
+        if is_wanted(row):
+            return row
+    return None
 
 
 def lots_of(many):
@@ -192,6 +295,14 @@ def nested(depth, wrap):
     return thing
 
 
+def shareable_in_words(book, most):
+    """Whether all alike rows up to a length are told the same."""
+    return all(
+        told(book, other) == told(book, row)
+        for row in rows_to(book.office, most) for other in reached(book.office, row)
+    )
+
+
 def odd_things():
     """Things of all kinds that an argument may be."""
     return [
@@ -201,6 +312,6 @@ def odd_things():
         ((), ()), ((), [0]), ((0, 1), (1, 0)), ((0, True), (1,)), "01", "().", bytearray(b"0"), range(2),
         nested(39, lambda x: (x,)), nested(39, lambda x: [x]), nested(39, lambda x: {0: x}),
         (nested(38, lambda x: (x, 0)),), tuple(range(9999)), (0,) * 9999, [0] * 9999,
-        F, C, (F,), [C], Office, len, odd_things, slice(0, 1), Ellipsis, NotImplemented, (NotImplemented,),
+        F, C, (F,), [C], machine_by(F, (2, 1), 1), Office, Machine, len, odd_things, slice(0, 1), Ellipsis, NotImplemented, (NotImplemented,),
         object(), ValueError("x"), iter(()), memoryview(b"0"),
     ]

@@ -1,17 +1,26 @@
-"""The examples e01 to e07 of the document, to the letter."""
+"""The examples e01 to e13 of the document, to the letter."""
 
 import unittest
 
+from latestword.bars import must_have
 from latestword.begins import common, joint
+from latestword.books import Book
+from latestword.covers import fewest_desks
+from latestword.hearing import fewest_to_hear
+from latestword.knowing import may_tell, sure
 from latestword.labelling import clashing, fewest_labels
+from latestword.leasts import is_shareable, may_be_apart, torn
 from latestword.logs import done_most, from_logs, log
 from latestword.news import newer, news, tops
+from latestword.notes import note
 from latestword.offices import Office, apart_pairs, works_without
 from latestword.rows import exchanges, layers, least_row
 from latestword.slips import labels, slip
 
 f = Office(2, ((0,), (1,), (0, 1)))
 o = Office(3, ((0, 1), (1, 2), (0, 2)))
+c = Book(f, (0, 1), ((1, 0, 0), (0, 1, 1)))
+w = Book(f, (0, 1, 2), ((1, 2, 0), (1, 1, 1), (2, 2, 2)))
 
 
 class Examples(unittest.TestCase):
@@ -47,6 +56,29 @@ class Examples(unittest.TestCase):
     def test_e07(self):
         self.assertEqual(fewest_labels(f, (0, 0, 0)), 1)
         self.assertEqual(clashing(f, (0, 2, 0, 0)), [])
+
+    def test_e08(self):
+        self.assertIs(is_shareable(w), False)
+        self.assertEqual(torn(w), ((0, 1), 0))
+        self.assertEqual(may_be_apart(c), [(0, 1), (0, 2), (1, 2)])
+
+    def test_e09(self):
+        self.assertEqual(fewest_desks(3, ((0, 1), (0, 2), (1, 2))), 1)
+        self.assertEqual(fewest_desks(3, ((0, 1), (1, 2))), 2)
+
+    def test_e10(self):
+        self.assertEqual(note(c, (0,), 0)[1], ((1, 0), (0, 1), (0, 1), (1, 0)))
+
+    def test_e11(self):
+        self.assertEqual(must_have(c, 0), 2)
+        self.assertEqual(must_have(c, 1), 1)
+
+    def test_e12(self):
+        self.assertEqual(may_tell(c, (0, 2), (1,)), (0, 1))
+        self.assertEqual(sure(c, (0, 2), (0,)), 1)
+
+    def test_e13(self):
+        self.assertEqual(fewest_to_hear(f, (0,), 1), (2,))
 
 
 if __name__ == "__main__":

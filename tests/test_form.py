@@ -1,7 +1,8 @@
 """The form of the code: what LANGUAGE.md tells of it, as far as it is easily looked up.
 
 Where the package needs less than a rule allows (it has no sets, no generators, no
-decorators, no try), the test asks for less: widen it together with the package.
+decorator but that of a property, no try), the test asks for less: widen it together
+with the package.
 """
 
 import ast
@@ -25,6 +26,8 @@ FORBIDDEN = (
     ast.AsyncFunctionDef, ast.Yield, ast.YieldFrom, ast.NamedExpr, ast.Starred, ast.Div, ast.MatMult, ast.Pow,
     ast.Delete, ast.Match, ast.JoinedStr, ast.AnnAssign, ast.Assert,
 )
+TAKING = set("list tuple dict sorted sum any all enumerate zip min max".split())
+COMPREHENSIONS = (ast.ListComp, ast.DictComp)
 CLASS_NAMES = re.compile("[A-Z][A-Za-z0-9]*")
 PLAIN_NAMES = re.compile("_|[A-Za-z][A-Za-z0-9_]*")
 
@@ -53,6 +56,21 @@ def bound_names(tree):
             yield node.id
         elif isinstance(node, ast.alias):
             yield node.asname or node.name
+
+
+def own_names(function):
+    """The names that a function binds, but for those in its comprehensions and nested functions."""
+    found = {part.arg for part in function.args.args}
+    edge = list(function.body)
+    while edge:
+        node = edge.pop()
+        if isinstance(node, ast.FunctionDef):
+            found.add(node.name)
+        elif not isinstance(node, COMPREHENSIONS):
+            if isinstance(node, ast.Name) and isinstance(node.ctx, ast.Store):
+                found.add(node.id)
+            edge += ast.iter_child_nodes(node)
+    return found
 
 
 class Form(unittest.TestCase):
@@ -132,19 +150,25 @@ class Form(unittest.TestCase):
             for name in bound_names(tree):
                 self.assertTrue(PLAIN_NAMES.fullmatch(name) or name in DOUBLE, name)
                 self.assertNotIn(name, dir(builtins))
+            over = {decorator for node in ast.walk(tree) for decorator in getattr(node, "decorator_list", ())}
             for node in ast.walk(tree):
                 if isinstance(node, ast.ClassDef):
                     self.assertTrue(CLASS_NAMES.fullmatch(node.name))
-                if isinstance(node, ast.Name) and node.id in dir(builtins):
+                if isinstance(node, ast.Name) and node.id in dir(builtins) and node not in over:
                     self.assertIn(node.id, BUILTINS)
                 if isinstance(node, ast.Name) and node.id == "_":
                     self.assertIsInstance(node.ctx, ast.Store)
 
     def test_only_the_syntax_that_is_needed(self):
         for name, tree in trees().items():
+            methods = [part for node in tree.body if isinstance(node, ast.ClassDef) for part in node.body]
             for node in ast.walk(tree):
                 self.assertNotIsInstance(node, FORBIDDEN, name)
-                self.assertFalse(getattr(node, "decorator_list", None))
+                if isinstance(node, ast.FunctionDef) and node not in methods:
+                    self.assertFalse(node.decorator_list)
+                for decorator in getattr(node, "decorator_list", ()):
+                    self.assertEqual(ast.unparse(decorator), "property")
+                    self.assertEqual([part.arg for part in node.args.args], ["self"])
                 if isinstance(node, ast.Constant):
                     self.assertIn(type(node.value), (int, str, bool, type(None)))
                     self.assertNotIn("%", str(node.value))
@@ -155,6 +179,41 @@ class Form(unittest.TestCase):
                 if isinstance(node, ast.Raise):
                     self.assertIsInstance(node.exc, ast.Call)
                     self.assertIsNone(node.cause)
+
+    def test_ranges_and_views_are_iterated_at_once(self):
+        """They stand behind the `in` of a loop, or in a call that goes over them."""
+        for name, tree in trees().items():
+            at_once = set()
+            for node in ast.walk(tree):
+                if isinstance(node, (ast.For, ast.comprehension)):
+                    at_once.add(node.iter)
+                if isinstance(node, ast.Call) and isinstance(node.func, ast.Name) and node.func.id in TAKING:
+                    at_once |= set(node.args)
+            for node in ast.walk(tree):
+                if isinstance(node, ast.Call):
+                    word = node.func.id if isinstance(node.func, ast.Name) else node.func.attr
+                    if word in ("range", "zip", "enumerate", "reversed", "items", "keys", "values"):
+                        self.assertIn(node, at_once, name)
+                    if word in ("zip", "enumerate", "reversed") or word == "range" and len(node.args) == 3:
+                        self.assertFalse(node.keywords)
+
+    def test_nested_comprehensions_hide_no_name(self):
+        """No variable of a comprehension in another one, or in a nested function, is bound further out."""
+        for tree in trees().values():
+            self.go_in(tree, set(), 0)
+
+    def go_in(self, node, taken, depth):
+        for part in ast.iter_child_nodes(node):
+            if isinstance(part, ast.FunctionDef):
+                self.go_in(part, taken | own_names(part), depth + 1)
+            elif isinstance(part, COMPREHENSIONS):
+                own = {name.id for generator in part.generators for name in ast.walk(generator.target)
+                       if isinstance(name, ast.Name)}
+                if depth > 1:
+                    self.assertFalse(own & taken)
+                self.go_in(part, taken | own, max(depth, 2))
+            else:
+                self.go_in(part, taken, depth)
 
     def test_methods(self):
         own = {

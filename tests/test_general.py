@@ -5,8 +5,11 @@ import importlib
 import inspect
 import unittest
 
-from helper import C, F, RING, W, long_row, nested
+from helper import C, F, RING, W, long_row, machine_by, nested
+from latestword.books import Book
 from latestword.errors import OfficeError
+from latestword.machines import Machine
+from latestword.notes import note
 from latestword.offices import Office
 from latestword.slips import blank_slip, slip
 
@@ -39,6 +42,27 @@ INTERFACE = {
         "fewest_labels": "office row", "dealt": "office row dealer", "judged_dealer": "office dealer many",
     },
     "books": {"Book": "office telling steps", "stood": "book row", "told": "book row", "is_even": "book"},
+    "leasts": {
+        "same": "one other", "parting_row": "one other", "least_book": "book", "is_shareable": "book", "torn": "book",
+        "may_be_apart": "book",
+    },
+    "covers": {"office_for": "many pairs", "fewest_desks": "many pairs"},
+    "notes": {
+        "note": "book row desk", "blank_note": "book", "worked": "book work notes", "change_by": "book lot notes",
+        "stood_by": "book notes", "told_by": "book notes",
+    },
+    "machines": {
+        "Machine": "office many moves tells", "notes_behind": "machine row", "used": "machine",
+        "told_there": "machine row", "joined": "machine", "wrong_row": "book machine", "is_for": "book thing",
+    },
+    "bars": {"must_have": "book desk", "bar_rows": "book desk", "is_bar": "book desk thing"},
+    "hands": {"judged": "book worker teller many"},
+    "knowing": {
+        "may_tell": "book row lot", "sure": "book row lot", "who_sure": "book row", "fewest_sure": "book row",
+        "may_tell_by": "book lot notes",
+    },
+    "fromlogs": {"least_with": "office lot logs", "may_from_logs": "book lot logs"},
+    "hearing": {"fewest_to_hear": "office row desk", "fewest_for_all": "office row"},
 }
 
 
@@ -51,6 +75,17 @@ def first_free(work, slips):
     return min(label for label in range(len(names) + 1) if (work, label) not in names)
 
 
+M = machine_by(F, (2, 3), 2)
+
+
+def leave_blank(work, notes):
+    return (None,) * len(notes)
+
+
+def tell_none(notes):
+    return 0
+
+
 def calls():
     """A right call of each function, and one of each class."""
     row = (1, 0, 2, 0, 1)
@@ -58,11 +93,16 @@ def calls():
     given = {
         "office": F, "book": C, "row": row, "other": (0, 1, 2, 1), "lot": (0,), "desk": 1,
         "logs": ((0, 2, 0), (1, 2)), "work": 2, "place": 3, "thing": row, "slips": slips,
-        "labels": (0, 0, 0, 0, 1), "dealer": first_free, "many": 3, "goal": 0,
+        "labels": (0, 0, 0, 0, 1), "dealer": first_free, "many": 3, "goal": 0, "pairs": ((0, 1), (1, 2)),
+        "notes": (note(C, row, 0), note(C, row, 1)), "machine": M, "worker": leave_blank, "teller": tell_none,
     }
     own = {"meet": (F, 0, 2), "ahead": (F, row, 1, 3), "tops": (F, row, 0, 1), "newer": (F, row, 0, 1, 0),
            "newer_by": (F, slips[0], slips[1], 0), "within_by": (F, slips[0], 1, slips[1], 0),
-           "Office": (2, ((0,), (0, 1))), "Book": (F, (0, 3), ((0, 1, 1), (1, 1, 0)))}
+           "Office": (2, ((0,), (0, 1))), "Book": (F, (0, 3), ((0, 1, 1), (1, 1, 0))),
+           "same": (C, W), "parting_row": (C, W), "torn": (W,), "change_by": (C, (1,), (note(C, row, 1),)),
+           "Machine": (F, M.many, M.moves, M.tells), "wrong_row": (C, M), "is_for": (C, M),
+           "is_bar": (C, 0, (row, [(), (0,)])), "may_tell_by": (C, (1,), (note(C, row, 1),)),
+           "least_with": (F, (0,), ((0, 2, 0),)), "may_from_logs": (C, (1,), ((2, 1),))}
     found = []
     for file, names in INTERFACE.items():
         for name, words in names.items():
@@ -85,6 +125,9 @@ class Interface(unittest.TestCase):
     def test_attributes(self):
         self.assertEqual(vars(F), {"desks": 2, "works": ((0,), (1,), (0, 1))})
         self.assertEqual(vars(C), {"office": F, "telling": (0, 1), "steps": ((1, 0, 0), (0, 1, 1))})
+        self.assertEqual((M.office, M.many), (F, (2, 3)))
+        self.assertEqual([sorted(table) for table in M.moves[:2]], [[(0,), (1,)], [(0,), (1,), (2,)]])
+        self.assertEqual(sorted(M.tells), [(one, other) for one in range(2) for other in range(3)])
 
 
 class Calls(unittest.TestCase):
@@ -110,7 +153,7 @@ class Calls(unittest.TestCase):
     def test_flags_are_flags(self):
         for function, arguments in calls():
             name = function.__name__
-            if name.startswith(("is_", "are_")) or name in ("alike", "begins", "meet", "ahead", "within_by"):
+            if name.startswith(("is_", "are_")) or name in ("alike", "begins", "meet", "ahead", "within_by", "same"):
                 self.assertIs(type(function(*arguments)), bool)
 
     def test_answers_have_no_odd_kinds_inside(self):
@@ -122,21 +165,22 @@ class Calls(unittest.TestCase):
             self.assertIn(type(thing), (list, tuple))
             for part in thing:
                 self.kinds(part)
-        elif not isinstance(thing, (Office, type(C))):
+        elif not isinstance(thing, (Office, Book, Machine)):
             self.assertIn(type(thing), (int, bool, str, type(None)))
 
     def test_wrong_arguments_stay_as_they_were(self):
         """Each argument of each call in turn is a list, a dict or deep; nothing is changed, no odd error raised."""
         for function, arguments in calls():
             for at in range(0 if inspect.isclass(function) else 1, len(arguments)):
-                if callable(arguments[at]) or isinstance(arguments[at], Office):
+                always_right = isinstance(arguments[at], (Office, Book, Machine)) and function.__name__ != "is_for"
+                if callable(arguments[at]) or always_right or isinstance(arguments[at], Book):
                     continue
                 for wrong in ([0, [1]], {0: [1]}, {"a": {0: 1}}, [[0, 1, 2]] * 3, nested(39, lambda x: [x])):
                     kept = copy.deepcopy(wrong)
                     changed = arguments[:at] + (wrong,) + arguments[at + 1:]
                     try:
                         self.assertIs(function(*changed), False)
-                        self.assertEqual(function.__name__, "is_row")
+                        self.assertIn(function.__name__, ("is_row", "is_for", "is_bar"))
                     except OfficeError:
                         pass
                     self.assertEqual(wrong, kept)
