@@ -100,11 +100,9 @@ class Views:
         return change
 
 
-def worked(book, work, notes):
-    check_even(book)
-    check_work(book.office, work)
+def note_behind(book, work, notes):
+    """As worked, of things that are an even book, a work and the notes of its desks."""
     desks = book.office.works[work]
-    check_notes(book, notes, len(desks))
     slips = tuple([held[0] for held in notes])
     behind = slip_behind(book.office, work, least_label(work, slips), slips)
     views = Views(book, notes)
@@ -119,11 +117,23 @@ def worked(book, work, notes):
     return behind, tuple(turns)
 
 
+def worked(book, work, notes):
+    check_even(book)
+    check_work(book.office, work)
+    check_notes(book, notes, len(book.office.works[work]))
+    return note_behind(book, work, notes)
+
+
+def change_of_all(book, notes):
+    """How all events in the views of the desks of some notes change, of things that are an even book and its notes."""
+    return Views(book, notes).change_but(())
+
+
 def change_by(book, lot, notes):
     check_even(book)
     check_lot(book.office, lot)
     check_notes(book, notes, len(lot))
-    return Views(book, notes).change_but(())
+    return change_of_all(book, notes)
 
 
 def stood_by(book, notes):

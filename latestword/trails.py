@@ -6,14 +6,14 @@ NO_EVENT = -1
 class Trail:
     """A row that is led on, with the names of its events, if they are told.
 
-    Its marks are, for each event, the tuple of the last events of all desks in its
-    past. NO_EVENT is the last event of a desk that has none, and has marks, too.
+    Its lasts_in tell, for each event, the tuple of the last events of all desks in its
+    past. NO_EVENT is the last event of a desk that has none, and stands there, too.
     """
 
     def __init__(self, office):
         self.office = office
         self.row = ()
-        self.marks = {NO_EVENT: (NO_EVENT,) * office.desks}
+        self.lasts_in = {NO_EVENT: (NO_EVENT,) * office.desks}
         self.names = {NO_EVENT: None}
         self.lasts = (NO_EVENT,) * office.desks
 
@@ -21,9 +21,9 @@ class Trail:
         """Puts an event behind the row."""
         event = len(self.row)
         desks = self.office.works[work]
-        heard = [self.marks[self.lasts[desk]] for desk in desks]
-        self.marks[event] = tuple([
-            event if desk in desks else max([marks[desk] for marks in heard])
+        heard = [self.lasts_in[self.lasts[desk]] for desk in desks]
+        self.lasts_in[event] = tuple([
+            event if desk in desks else max([lasts[desk] for lasts in heard])
             for desk in range(self.office.desks)
         ])
         self.lasts = tuple([event if desk in desks else last for desk, last in enumerate(self.lasts)])
@@ -35,7 +35,7 @@ class Trail:
         other = Trail(self.office)
         other.row = self.row
         other.lasts = self.lasts
-        other.marks = dict(self.marks)
+        other.lasts_in = dict(self.lasts_in)
         other.names = dict(self.names)
         other.lead(work, label)
         return other
@@ -43,17 +43,17 @@ class Trail:
     def has(self, event, place):
         """Whether an event is in the past of another one, or is it."""
         desk = self.office.works[self.row[place]][0]
-        return self.marks[event][desk] >= place
+        return self.lasts_in[event][desk] >= place
 
     def news(self, desk):
-        return self.marks[self.lasts[desk]]
+        return self.lasts_in[self.lasts[desk]]
 
     def second_news(self, desk):
-        return tuple([self.marks[event] for event in self.news(desk)])
+        return tuple([self.lasts_in[event] for event in self.news(desk)])
 
     def third_news(self, desk):
         return tuple([
-            tuple([self.marks[event] for event in events])
+            tuple([self.lasts_in[event] for event in events])
             for events in self.second_news(desk)
         ])
 

@@ -1,10 +1,11 @@
-"""The examples e01 to e13 of the document, to the letter."""
+"""The examples e01 to e14 of the document, to the letter."""
 
 import unittest
 
 from latestword.bars import must_have
 from latestword.begins import common, joint
 from latestword.books import Book
+from latestword.counting import apart_lots, many_rows, row_at
 from latestword.covers import fewest_desks
 from latestword.hearing import fewest_to_hear
 from latestword.knowing import may_tell, sure
@@ -79,6 +80,11 @@ class Examples(unittest.TestCase):
 
     def test_e13(self):
         self.assertEqual(fewest_to_hear(f, (0,), 1), (2,))
+
+    def test_e14(self):
+        self.assertEqual(many_rows(f, 2), 8)
+        self.assertEqual(apart_lots(f), (1, 3, 1))
+        self.assertEqual(row_at(f, 2, 1), (0, 1))
 
 
 if __name__ == "__main__":

@@ -1,8 +1,8 @@
 """The form of the code: what LANGUAGE.md tells of it, as far as it is easily looked up.
 
 Where the package needs less than a rule allows (it has no sets, no generators, no
-decorator but that of a property, no try), the test asks for less: widen it together
-with the package.
+decorator but that of a property, no handlers), the test asks for less: widen it
+together with the package.
 """
 
 import ast
@@ -22,7 +22,7 @@ BARRED = set("""type typing typing_extensions enum Enum IntEnum StrEnum Flag Int
 namedtuple NamedTuple TypedDict TYPE_CHECKING abstractmethod register mro elements open input law version_info
 with_traceback add_note _wall _WallAttr""".split())
 FORBIDDEN = (
-    ast.GeneratorExp, ast.Set, ast.SetComp, ast.Lambda, ast.Try, ast.With, ast.Global, ast.Nonlocal, ast.Await,
+    ast.GeneratorExp, ast.Set, ast.SetComp, ast.Lambda, ast.ExceptHandler, ast.With, ast.Global, ast.Nonlocal, ast.Await,
     ast.AsyncFunctionDef, ast.Yield, ast.YieldFrom, ast.NamedExpr, ast.Starred, ast.Div, ast.MatMult, ast.Pow,
     ast.Delete, ast.Match, ast.JoinedStr, ast.AnnAssign, ast.Assert,
 )
@@ -118,6 +118,51 @@ class Form(unittest.TestCase):
             for name in free:
                 del above[name]
 
+    def test_a_finally_puts_one_thing_back(self):
+        """It assigns a local name, that was assigned ahead of the try, to an attribute."""
+        for tree in trees().values():
+            for function in ast.walk(tree):
+                if isinstance(function, ast.FunctionDef):
+                    for at, node in enumerate(function.body):
+                        if isinstance(node, ast.Try):
+                            self.assertEqual((len(node.finalbody), node.handlers, node.orelse), (1, [], []))
+                            last = node.finalbody[0]
+                            self.assertIsInstance(last, ast.Assign)
+                            self.assertIsInstance(last.targets[0], ast.Attribute)
+                            ahead = [part.targets[0].id for part in function.body[:at] if isinstance(part, ast.Assign)]
+                            self.assertIn(last.value.id, ahead)
+
+    def plain_value(self, value, functions, depth=0):
+        """A literal, or a dict of such, of tuples of such and of functions."""
+        if isinstance(value, ast.Dict):
+            self.assertEqual(depth, 0)
+            for part in value.keys:
+                self.assertIsInstance(part, ast.Constant)
+            for part in value.values:
+                self.plain_value(part, functions, depth + 1)
+        elif isinstance(value, ast.Tuple):
+            for part in value.elts:
+                self.plain_value(part, functions, depth + 1)
+        elif isinstance(value, ast.Name):
+            self.assertIn(value.id, functions)
+        else:
+            self.assertIsInstance(value, (ast.Constant, ast.UnaryOp))
+
+    def test_tables_are_only_read(self):
+        """A dict at module level is indexed, or asked whether something is in it, in its own file."""
+        for name, tree in trees().items():
+            tables = {node.targets[0].id for node in tree.body
+                      if isinstance(node, ast.Assign) and isinstance(node.value, ast.Dict)}
+            read = {node.value for node in ast.walk(tree) if isinstance(node, ast.Subscript)
+                    and isinstance(node.ctx, ast.Load)}
+            read |= {part for node in ast.walk(tree) if isinstance(node, ast.Compare)
+                     and isinstance(node.ops[0], (ast.In, ast.NotIn)) for part in node.comparators}
+            for node in ast.walk(tree):
+                if isinstance(node, ast.Name) and node.id in tables and isinstance(node.ctx, ast.Load):
+                    self.assertIn(node, read, name)
+                if isinstance(node, ast.Call):
+                    self.assertIsInstance(node.func, (ast.Name, ast.Attribute), name)
+
     def test_imports_are_used_and_names_bound_once(self):
         for tree in trees().values():
             used = {node.id for node in ast.walk(tree) if isinstance(node, ast.Name)}
@@ -127,7 +172,7 @@ class Form(unittest.TestCase):
                     at_top += [alias.name for alias in node.names]
                     self.assertFalse({alias.name for alias in node.names} - used)
                 elif isinstance(node, ast.Assign):
-                    self.assertIsInstance(node.value, (ast.Constant, ast.UnaryOp))
+                    self.plain_value(node.value, at_top)
                     at_top.append(node.targets[0].id)
                 elif isinstance(node, (ast.FunctionDef, ast.ClassDef)):
                     at_top.append(node.name)
