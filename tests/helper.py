@@ -138,6 +138,34 @@ def mixed_books():
     return found
 
 
+def adding_book(office, many, adds, telling=None):
+    """An even book in which each work adds a number of its own to the standing."""
+    steps = tuple(tuple((standing + add) % many for add in adds) for standing in range(many))
+    return Book(office, telling or tuple(standing % 10 for standing in range(many)), steps)
+
+
+def goals_by_rows(book, other):
+    """Goals that go by rows: for each standing the one where the other book then stands."""
+    found = {0: 0}
+    edge = [0]
+    while edge:
+        standing = edge.pop()
+        for work, there in enumerate(book.steps[standing]):
+            if there not in found:
+                found[there] = other.steps[found[standing]][work]
+                edge.append(there)
+    return tuple(found[standing] for standing in range(len(book.steps)))
+
+
+def chain_of_books(office, many, seed):
+    """Even books, each of which can be turned into the next, with the goals that lead there."""
+    parts = parts_by(office, many, seed)
+    tables = [parts[3]] + [{notes: number // by for notes, number in parts[3].items()} for by in (1, 3, 10)]
+    books = [joined(Machine(office, many, parts[2], table)) for table in tables]
+    books = books[:1] + [least_book(book) for book in books[1:]]
+    return books, [goals_by_rows(one, other) for one, other in zip(books, books[1:])]
+
+
 def tells_from(book, standing, most):
     """What is told from a standing behind all rows up to a length."""
     found = []

@@ -1,12 +1,14 @@
-"""The examples e01 to e14 of the document, to the letter."""
+"""The examples e01 to e17 of the document, to the letter."""
 
 import unittest
 
+from latestword.audits import audited, row_of
 from latestword.bars import must_have
 from latestword.begins import common, joint
 from latestword.books import Book
 from latestword.counting import apart_lots, many_rows, row_at
 from latestword.covers import fewest_desks
+from latestword.cuts import carried_on, is_cut, many_cuts, rolled_back
 from latestword.hearing import fewest_to_hear
 from latestword.knowing import may_tell, sure
 from latestword.labelling import clashing, fewest_labels
@@ -17,6 +19,7 @@ from latestword.notes import note
 from latestword.offices import Office, apart_pairs, works_without
 from latestword.rows import exchanges, layers, least_row
 from latestword.slips import labels, slip
+from latestword.turning import are_goals, least_goals
 
 f = Office(2, ((0,), (1,), (0, 1)))
 o = Office(3, ((0, 1), (1, 2), (0, 2)))
@@ -85,6 +88,20 @@ class Examples(unittest.TestCase):
         self.assertEqual(many_rows(f, 2), 8)
         self.assertEqual(apart_lots(f), (1, 3, 1))
         self.assertEqual(row_at(f, 2, 1), (0, 1))
+
+    def test_e15(self):
+        self.assertIs(is_cut(f, (0, 2, 1), (1, 0)), True)
+        self.assertEqual(rolled_back(f, (0, 2, 1), (2, 0)), (1, 0))
+        self.assertEqual(carried_on(f, (0, 2, 1), (2, 0)), (2, 1))
+        self.assertEqual(many_cuts(f, (0, 2, 1)), 4)
+
+    def test_e16(self):
+        self.assertIs(are_goals(c, c, (0, 1)), True)
+        self.assertEqual(least_goals(c), (0, 1))
+
+    def test_e17(self):
+        self.assertEqual(audited(f, (((0, 1, 2),), ())), ("lacking", 0, 1, 1))
+        self.assertEqual(row_of(f, (((0, 1, 2),), ((0, 1, 2),))), (2,))
 
 
 if __name__ == "__main__":

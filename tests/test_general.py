@@ -72,6 +72,14 @@ INTERFACE = {
     "texts": {"office_text": "office", "book_text": "book", "row_text": "row"},
     "reading": {"read_office": "text", "read_book": "text", "read_row": "office text"},
     "hatch": {"Hatch": ""},
+    "cuts": {
+        "is_cut": "office row thing", "rolled_back": "office row counts", "carried_on": "office row counts",
+        "cut_row": "office row counts", "many_cuts": "office row",
+    },
+    "ledgers": {"Ledger": "office"},
+    "turning": {"are_goals": "book other thing", "turned": "book other goals held", "least_goals": "book"},
+    "lines": {"Line": "book"},
+    "audits": {"audited": "office journals", "row_of": "office journals"},
 }
 METHODS = {
     "Floor": {
@@ -79,8 +87,17 @@ METHODS = {
         "depth": "", "copy": "", "trying": "action",
     },
     "Hatch": {"tell": "line", "undoable": ""},
+    "Ledger": {
+        "add": "work", "length": "", "kept": "event", "marks": "event", "ahead": "one other", "latest": "event desk",
+        "own": "desk number", "counts": "", "rolled_back": "counts", "cut_back": "counts",
+    },
+    "Line": {
+        "call": "work", "letters": "", "bring": "number", "lose": "number", "double": "number", "fall": "desk",
+        "rise": "desk", "again": "desk", "turn": "other goals", "step_up": "desk", "done": "", "state": "desk",
+        "note": "desk", "journal": "desk", "told": "", "settle": "", "copy": "",
+    },
 }
-LIVE = ("Floor", "Hatch")
+LIVE = ("Floor", "Hatch", "Ledger", "Line")
 
 
 def module(name):
@@ -112,7 +129,8 @@ def calls():
         "logs": ((0, 2, 0), (1, 2)), "work": 2, "place": 3, "thing": row, "slips": slips,
         "labels": (0, 0, 0, 0, 1), "dealer": first_free, "many": 3, "goal": 0, "pairs": ((0, 1), (1, 2)),
         "notes": (note(C, row, 0), note(C, row, 1)), "machine": M, "worker": leave_blank, "teller": tell_none,
-        "length": 5, "number": 3,
+        "length": 5, "number": 3, "counts": (1, 1), "goals": (0, 1), "held": note(C, row, 1),
+        "journals": (((0, 1, 0), (0, 3, 2)), ((1, 1, 1), (0, 3, 2))),
     }
     own = {"meet": (F, 0, 2), "ahead": (F, row, 1, 3), "tops": (F, row, 0, 1), "newer": (F, row, 0, 1, 0),
            "newer_by": (F, slips[0], slips[1], 0), "within_by": (F, slips[0], 1, slips[1], 0),
@@ -121,6 +139,8 @@ def calls():
            "Machine": (F, M.many, M.moves, M.tells), "wrong_row": (C, M), "is_for": (C, M),
            "is_bar": (C, 0, (row, [(), (0,)])), "may_tell_by": (C, (1,), (note(C, row, 1),)),
            "least_with": (F, (0,), ((0, 2, 0),)), "may_from_logs": (C, (1,), ((2, 1),)),
+           "is_cut": (F, row, (1, 1)), "cut_row": (F, row, (0, 1)), "are_goals": (C, C, (0, 1)),
+           "turned": (C, C, (0, 1), note(C, row, 1)),
            "read_office": (office_text(F),), "read_book": (book_text(C),), "read_row": (F, "1,0,2")}
     found = []
     for file, names in INTERFACE.items():
@@ -208,7 +228,7 @@ class Calls(unittest.TestCase):
                     changed = arguments[:at] + (wrong,) + arguments[at + 1:]
                     try:
                         self.assertIs(function(*changed), False)
-                        self.assertIn(function.__name__, ("is_row", "is_for", "is_bar"))
+                        self.assertIn(function.__name__, ("is_row", "is_for", "is_bar", "is_cut", "are_goals"))
                     except OfficeError:
                         pass
                     self.assertEqual(wrong, kept)
