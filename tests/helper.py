@@ -5,7 +5,12 @@ from functools import lru_cache
 from itertools import product
 
 from latestword.books import Book, told
+from latestword.errors import BadOffice
+from latestword.floors import Floor
+from latestword.hatch import Hatch
 from latestword.leasts import least_book
+from latestword.ledgers import Ledger
+from latestword.lines import Line
 from latestword.machines import Machine, joined
 from latestword.offices import Office
 
@@ -340,6 +345,7 @@ def odd_things():
         ((), ()), ((), [0]), ((0, 1), (1, 0)), ((0, True), (1,)), "01", "().", bytearray(b"0"), range(2),
         nested(39, lambda x: (x,)), nested(39, lambda x: [x]), nested(39, lambda x: {0: x}),
         (nested(38, lambda x: (x, 0)),), tuple(range(9999)), (0,) * 9999, [0] * 9999,
-        F, C, (F,), [C], machine_by(F, (2, 1), 1), Office, Machine, len, odd_things, slice(0, 1), Ellipsis, NotImplemented, (NotImplemented,),
-        object(), ValueError("x"), iter(()), memoryview(b"0"),
+        F, C, (F,), [C], machine_by(F, (2, 1), 1), Floor(C), Ledger(F), Line(C), Hatch(), (Line(C),), Office, Machine, len,
+        odd_things, slice(0, 1), Ellipsis, NotImplemented, (NotImplemented,), object(), BadOffice("desks"),
+        ValueError("x"), iter(()), memoryview(b"0"),
     ]
